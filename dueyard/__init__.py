@@ -1,0 +1,1 @@
+"""Dueyard: machines shared by the turn, and promises that are kept."""
