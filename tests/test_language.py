@@ -31,6 +31,9 @@ NODES_LEFT_OUT = (
     ast.Starred, ast.Div, ast.Import, ast.AnnAssign, ast.MatMult,
 )
 
+WALKED = ["zip", "enumerate", "reversed", "range", "items", "keys", "values"]
+WALKERS = ["list", "tuple", "dict", "sorted", "sum", "any", "all", "enumerate", "zip", "min", "max", "join"]
+
 
 def files():
     return sorted(PACKAGE.glob("*.py"))
@@ -52,6 +55,10 @@ def classes():
 
 def own_methods():
     return {part.name for node in classes() for part in node.body if isinstance(part, ast.FunctionDef)}
+
+
+def called(node):
+    return node.func.id if isinstance(node.func, ast.Name) else getattr(node.func, "attr", None)
 
 
 def drawn_from(tree):
@@ -150,6 +157,36 @@ class Language(unittest.TestCase):
                 self.assertNotIn(node.attr, methods, where)
             if isinstance(node, ast.Call) and isinstance(node.func, ast.Attribute):
                 self.assertIn(node.func.attr, sorted(methods) + OWN_METHODS, where)
+
+    def test_no_local_is_called_like_a_class_or_an_import_of_its_file(self):
+        for file in files():
+            tree = tree_of(file)
+            taken = [alias.name for node in tree.body if isinstance(node, ast.ImportFrom) for alias in node.names]
+            taken += [node.name for node in tree.body if isinstance(node, ast.ClassDef)]
+            for node in ast.walk(tree):
+                if isinstance(node, ast.arg):
+                    self.assertNotIn(node.arg, taken, (file.name, node.lineno))
+                if isinstance(node, ast.Name) and isinstance(node.ctx, ast.Store):
+                    self.assertNotIn(node.id, taken, (file.name, node.lineno))
+
+    def test_is_stands_beside_none_and_truths_alone(self):
+        for name, node in nodes():
+            if isinstance(node, ast.Compare):
+                for operator, right in zip(node.ops, node.comparators):
+                    if isinstance(operator, (ast.Is, ast.IsNot)):
+                        self.assertIsInstance(right, ast.Constant, (name, node.lineno))
+                        self.assertTrue(right.value in (None, True, False), (name, node.lineno))
+
+    def test_what_is_walked_is_walked_on_the_spot(self):
+        for file in files():
+            tree = tree_of(file)
+            spots = [node.iter for node in ast.walk(tree) if isinstance(node, (ast.For, ast.comprehension))]
+            for node in ast.walk(tree):
+                if isinstance(node, ast.Call) and called(node) in WALKERS:
+                    spots += node.args
+            for node in ast.walk(tree):
+                if isinstance(node, ast.Call) and called(node) in WALKED:
+                    self.assertTrue(any(node is spot for spot in spots), (file.name, node.lineno))
 
 
 if __name__ == "__main__":
