@@ -8,27 +8,9 @@ from dueyard.errors import NoName, NoNumber, TooMany, Twice
 from dueyard.flows import Flow
 from dueyard.jobs import excess
 from dueyard.spans import tidy
-from samples import overflow_of_turns, small_calendar, small_load, window
+from samples import greatest_overflow, least_undone, small_calendar, small_load
 
 ONE = Calendar([], 1)
-
-
-def least_undone(load, calendar):
-    """The least work that any laying leaves undone, by going through all of them, turn by turn."""
-    left = {tuple(job[3] for job in load)}
-    for turn in sorted(set().union(*[window(job) for job in load])):
-        most = [job[4] if turn in window(job) else 0 for job in load]
-        choices = [some for some in itertools.product(*[range(many + 1) for many in most])
-                   if sum(some) <= calendar.at(turn)]
-        left = {tuple(have - less for have, less in zip(state, some))
-                for state in left for some in choices if all(less <= have for have, less in zip(state, some))}
-    return min(sum(state) for state in left)
-
-
-def greatest_overflow(load, calendar):
-    turns = sorted(set().union(*[window(job) for job in load]))
-    subsets = itertools.chain.from_iterable(itertools.combinations(turns, many) for many in range(len(turns) + 1))
-    return max(overflow_of_turns(load, calendar, set(some)) for some in subsets)
 
 
 def told_by(flow):
