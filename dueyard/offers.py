@@ -43,8 +43,8 @@ def room(load, calendar, name, first, last, breadth=1):
     check_load(load + [(name, first, last, 1, breadth)])
     refuse_not_kept(load, calendar)
 
-    def settled_with(work):
-        more = [(name, first, last, work, breadth)] if work > 0 else []
+    def settled_with(amount):
+        more = [(name, first, last, amount, breadth)] if amount > 0 else []
         return settled(load + more, calendar)
 
     most = settled_with(MOST_WORK)

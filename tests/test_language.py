@@ -31,6 +31,13 @@ NODES_LEFT_OUT = (
     ast.Starred, ast.Div, ast.Import, ast.AnnAssign, ast.MatMult,
 )
 
+NAMES_LEFT_OUT = """register mro elements open input version_info with_traceback add_note attrgetter breakpoint builtins
+compile copyright credits delattr dir eval exec exit gc getattr globals hasattr help id importlib license locals
+methodcaller os quit setattr super type vars sys""".split()
+
+KEYWORDS = {"sorted": ["key", "reverse"], "min": ["key", "default"], "max": ["key", "default"], "sum": ["start"],
+            "enumerate": ["start"], "zip": ["strict"]}
+
 WALKED = ["zip", "enumerate", "reversed", "range", "items", "keys", "values"]
 WALKERS = ["list", "tuple", "dict", "sorted", "sum", "any", "all", "enumerate", "zip", "min", "max", "join"]
 
@@ -82,11 +89,23 @@ class Language(unittest.TestCase):
     def test_the_top_of_a_file(self):
         allowed = (ast.ImportFrom, ast.FunctionDef, ast.ClassDef, ast.Assign)
         for file in files():
+            defined = []
             for place, node in enumerate(tree_of(file).body):
                 docstring = place == 0 and isinstance(node, ast.Expr)
                 self.assertTrue(docstring or isinstance(node, allowed), (file.name, node.lineno))
+                if isinstance(node, ast.FunctionDef):
+                    defined.append(node.name)
                 if isinstance(node, ast.Assign):
-                    ast.literal_eval(node.value)
+                    self.check_plain_value(node.value, defined, (file.name, node.lineno))
+
+    def check_plain_value(self, value, defined, where):
+        """Plain values, functions defined above among them; and no list or dict within another one."""
+        for node in ast.walk(value):
+            allowed = (ast.Constant, ast.List, ast.Tuple, ast.Dict, ast.Name, ast.Load, ast.UnaryOp, ast.USub)
+            self.assertIsInstance(node, allowed, where)
+            self.assertTrue(node is value or not isinstance(node, (ast.List, ast.Dict)), where)
+            if isinstance(node, ast.Name):
+                self.assertIn(node.id, defined, where)
 
     def test_imports(self):
         for name, node in nodes():
@@ -168,6 +187,72 @@ class Language(unittest.TestCase):
                     self.assertNotIn(node.arg, taken, (file.name, node.lineno))
                 if isinstance(node, ast.Name) and isinstance(node.ctx, ast.Store):
                     self.assertNotIn(node.id, taken, (file.name, node.lineno))
+
+    def test_names_left_out(self):
+        for name, node in nodes():
+            for field in ["id", "attr", "arg", "name"]:
+                self.assertNotIn(getattr(node, field, None), NAMES_LEFT_OUT, (name, getattr(node, "lineno", None)))
+
+    def test_each_name_is_bound_once(self):
+        for file in files():
+            names = []
+            for node in tree_of(file).body:
+                if isinstance(node, ast.ImportFrom):
+                    names += [alias.name for alias in node.names]
+                elif isinstance(node, ast.Assign):
+                    names.append(node.targets[0].id)
+                elif not isinstance(node, ast.Expr):
+                    names.append(node.name)
+            self.assertEqual(len(set(names)), len(names), file.name)
+        for node in classes():
+            names = [part.name for part in node.body if isinstance(part, ast.FunctionDef)]
+            self.assertEqual(len(set(names)), len(names), node.name)
+
+    def test_lists_and_dicts_of_the_top_are_only_read(self):
+        for file in files():
+            tree = tree_of(file)
+            kept = [node.targets[0].id for node in tree.body
+                    if isinstance(node, ast.Assign) and isinstance(node.value, (ast.List, ast.Dict))]
+            read = [node.value for node in ast.walk(tree)
+                    if isinstance(node, ast.Subscript) and isinstance(node.ctx, ast.Load)]
+            for node in ast.walk(tree):
+                if isinstance(node, ast.Compare):
+                    read += node.comparators
+            for node in ast.walk(tree):
+                if isinstance(node, ast.Name) and isinstance(node.ctx, ast.Load) and node.id in kept:
+                    self.assertTrue(any(node is spot for spot in read), (file.name, node.lineno))
+
+    def test_a_class_is_called_or_is_a_base_or_stands_by_isinstance(self):
+        names = [node.name for node in classes()]
+        for file in files():
+            tree = tree_of(file)
+            spots = []
+            for node in ast.walk(tree):
+                if isinstance(node, ast.Call):
+                    spots += [node.func] + (node.args[1:] if called(node) == "isinstance" else [])
+                elif isinstance(node, ast.ClassDef):
+                    spots += node.bases
+                elif isinstance(node, ast.Attribute) and node.attr == "__init__":
+                    spots.append(node.value)
+            for node in ast.walk(tree):
+                if isinstance(node, ast.Name) and node.id in names:
+                    self.assertTrue(any(node is spot for spot in spots), (file.name, node.lineno))
+
+    def test_keywords(self):
+        for name, node in nodes():
+            if isinstance(node, ast.Call):
+                for keyword in node.keywords:
+                    self.assertIn(keyword.arg, KEYWORDS.get(called(node), []), (name, node.lineno))
+
+    def test_texts_and_powers(self):
+        for name, node in nodes():
+            where = (name, getattr(node, "lineno", None))
+            if isinstance(node, ast.FormattedValue):
+                self.assertIsInstance(node.value, ast.Name, where)
+                self.assertIsNone(node.format_spec, where)
+            if isinstance(node, ast.Constant) and isinstance(node.value, str):
+                self.assertNotIn("%", node.value, where)
+            self.assertNotIsInstance(getattr(node, "op", None), ast.Pow, where)
 
     def test_is_stands_beside_none_and_truths_alone(self):
         for name, node in nodes():

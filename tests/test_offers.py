@@ -96,7 +96,8 @@ class Offers(RefusingNewJobs):
 
     def test_beside_others(self):
         for first, work, breadth, last in [
-            (0, 1, 1, 0), (0, 3, 1, 2), (0, 4, 1, 10), (3, 1, 1, 3), (3, 3, 1, 5), (3, 4, 1, 10), (3, 5, 1, 11), (10, 2, 9, 11)
+            (0, 1, 1, 0), (0, 3, 1, 2), (0, 4, 1, 10), (3, 1, 1, 3), (3, 3, 1, 5), (3, 4, 1, 10), (3, 5, 1, 11),
+            (10, 2, 9, 11),
         ]:
             load = [("a", 0, 9, 3, 1), ("b", 2, 9, 4, 1)]
             self.assertEqual(self.both(load, ONE, ("new", first, work, breadth)), last, (first, work, breadth))

@@ -110,7 +110,8 @@ class Settled(Refusing):
     def test_one_job(self):
         for first, last, work, breadth, lack in [
             (2, 5, 4, 1, 0), (2, 5, 5, 1, 1), (2, 5, 8, 2, 0), (2, 5, 9, 2, 1), (2, 5, 9, 16, 1), (5, 4, 1, 1, 1),
-            (5, -1, 60, 16, 60), (0, 0, 1, 1, 0), (0, 0, 3, 3, 1), (10 ** 9, FAR, 60, 1, 0), (10 ** 9, 10 ** 9, 9, 9, 7),
+            (5, -1, 60, 16, 60), (0, 0, 1, 1, 0), (0, 0, 3, 3, 1), (10 ** 9, FAR, 60, 1, 0),
+            (10 ** 9, 10 ** 9, 9, 9, 7),
         ]:
             self.assertEqual(self.lack([("a", first, last, work, breadth)], TWO), lack, (first, last, work, breadth))
 
